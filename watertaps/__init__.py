@@ -1,0 +1,1 @@
+"""A water plant: two carbon filters, a loop with taps, every batch traced."""
