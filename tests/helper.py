@@ -10,9 +10,13 @@ LOWEST = -(2 ** 63)
 HIGHEST = 2 ** 63 - 1
 TEN_TO_15 = 1000000000000000
 
+LAST_TIME = 10000000000
+
 TEST = [3]
 EXCHANGE = [4]
 RENEW = [5]
+LOOK = [11]
+SUMS = [18]
 
 PLAN = {
     "cells": 3, "cell": 10, "raw": 1000, "store": 500, "gulp": 20, "holds": 5,
@@ -47,6 +51,38 @@ def dose(g):
 
 def draw(tap, v):
     return [9, tap, v]
+
+
+def drain(which, v):
+    return [10, which, v]
+
+
+def water(which):
+    return [12, which]
+
+
+def cell(i):
+    return [13, i]
+
+
+def batch(b):
+    return [14, b]
+
+
+def who(b):
+    return [15, b]
+
+
+def drawn(d):
+    return [16, d]
+
+
+def since(t):
+    return [17, t]
+
+
+def ahead(k):
+    return [19, k]
 
 
 def flat(calls):
@@ -122,7 +158,11 @@ class PlantCase(unittest.TestCase):
         self.assert_taken(plant, call, answer)
         self.assertEqual(snapshot(plant), wanted, call)
 
-    def assert_water(self, water, bag, amounts):
-        self.assertEqual(bag_of(water), bag)
-        self.assertEqual(water.amounts, amounts)
-        self.assertEqual(water.volume, sum(bag[2::2]))
+    def assert_told(self, plant, call, answer):
+        """The call is answered so and changes nothing."""
+        self.assert_changed(plant, call, answer, {})
+
+    def assert_water(self, held, bag, amounts):
+        self.assertEqual(bag_of(held), bag)
+        self.assertEqual(held.amounts, amounts)
+        self.assertEqual(held.volume, sum(bag[2::2]))

@@ -6,20 +6,29 @@ from contextlib import redirect_stdout
 
 import watertaps.plant
 from tests.helper import (
-    EXCHANGE, HIGHEST, LOWEST, RENEW, TEST, brine, dose, draw, flat, intake, lay, loop, split_answers, tick,
+    EXCHANGE, HIGHEST, LOOK, LOWEST, RENEW, SUMS, TEST, ahead, batch, brine, cell, dose, drain, draw, drawn, flat,
+    intake, lay, loop, since, split_answers, tick, water, who,
 )
 from watertaps.plant import answers
 
 LINE = flat([
     TEST, lay(), lay(), intake(25, 4, 3, 7), intake(16, 1, 5, 2), intake(HIGHEST, LOWEST), TEST, tick(1), loop(1),
-    tick(2), draw(0, 3), draw(3, 3), dose(2), draw(0, 3), brine(100), RENEW, brine(500), RENEW, EXCHANGE, tick(1),
+    tick(2), draw(0, 3), draw(3, 3), dose(2), draw(0, 3), brine(100), RENEW, brine(500), RENEW, LOOK, EXCHANGE,
+    tick(1), water(0), cell(1), batch(1), batch(3), who(2), drawn(1), since(3), SUMS, ahead(2), ahead(0), drain(2, 1),
+    drain(1, 99), water(1),
 ])
 ANSWERED = [
     1, -2, 1, 0, 1, -3, 1, 1, 1, 2, 1, -1, 1, 1, 3, 1, 0, 3, 1, 0,
     # Gulps of 56 and of 57 hardness, 75 and 76 chlorine. The turns: 30 millilitres (19 and 11), of which 10
     # are 7 and 3; then 20 (12 and 8), of which 10 are 6 and 4; of these 3 are 1.8 and 1.2, so 2 and 1.
     3, 1, 3, 3, 6, 1, 2, 1, 2, 2, 1, 1, -1, 1, 0, 1, -9, 1, 100, 1, -7, 1, 600, 2, 113, 487,
+    13, 3, 10000, 9848, 10000, 0, 487, 1, 0, 2, 1, 3, 1, 0,
+    # The third turn leaves nothing in the store: its 10 millilitres have 8 salt and 2 disinfectant.
     2, 9848, 10000, 3, 0, 1, 0,
+    8, 1, 3, 4, 6, 0, 1, 2, 1, 10, 7, 0, 0, 5, 0, 2, 1, 4, 2, 3, 6, 25, 0, 0, 17, 2, 6, 1, -10, 3, 1, 1, 1,
+    12, 0, 3, 3, 0, 0, 2, 0, 2, 1, 2, 2, 1, 2, 1, 1,
+    28, 116, 3, 0, 0, 0, 0, 155, 4, 0, 0, 0, 0, 207, 6, 0, 20, 2, 292, 0, 0, 0, 2, 0, 0, 151, 1, 113, 2,
+    3, 0, 1, 2, 1, -1, 1, 27, 1, 0, 6, 0, 0, 0, 0, 0, 0,
 ]
 
 
@@ -76,9 +85,10 @@ class Interface(unittest.TestCase):
     def test_arguments_from_end_to_end_of_their_kind(self):
         for number in (LOWEST, HIGHEST):
             calls = [[0] + [number] * 12, intake(number, number, number, number), tick(number), brine(number),
-                     loop(number), dose(number), draw(number, number)]
-            self.assertEqual(answers(flat([lay()] + calls)), [1, 0] + [1, -1] * 7)
-            self.assertEqual(answers(flat(calls)), [1, -1] + [1, -2] * 6)
+                     loop(number), dose(number), draw(number, number), drain(number, number), water(number),
+                     cell(number), batch(number), who(number), drawn(number), since(number), ahead(number)]
+            self.assertEqual(answers(flat([lay()] + calls)), [1, 0] + [1, -1] * 15)
+            self.assertEqual(answers(flat(calls)), [1, -1] + [1, -2] * 14)
 
     def test_no_such_call(self):
         self.assertEqual(answers(lay() + [20]), [1, 0, 1, -100])
@@ -86,11 +96,13 @@ class Interface(unittest.TestCase):
         self.assertEqual(answers(lay() + [-1, 3]), [1, 0, 1, -100])
         self.assertEqual(answers([LOWEST]), [1, -100])
 
-    def test_the_calls_behind_one_that_is_not_written_yet_are_found(self):
-        for place, arguments in enumerate((2, 0, 1, 1, 1, 1, 1, 1, 0, 1), start=10):
+    def test_each_call_has_its_own_count_of_numbers(self):
+        counts = (12, 4, 1, 0, 0, 0, 1, 1, 1, 2, 2, 0, 1, 1, 1, 1, 1, 1, 0, 1)
+        for place, arguments in enumerate(counts):
             answered = split_answers(answers(lay() + [place] + [1] * arguments + brine(7)))
             self.assertEqual(len(answered), 3, place)
-            self.assertEqual(answered[2], [7], place)
+            self.assertNotEqual(answered[1], [-100], place)
+            self.assertEqual(answered[2][0] % 10, 8 if place == 6 else 7, place)
 
     def test_too_few_numbers(self):
         self.assertEqual(answers(lay()[:-1]), [1, -100])

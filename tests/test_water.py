@@ -1,7 +1,9 @@
 """Water: joining, a part of v millilitres, what stays, bags."""
 
 from tests.helper import PlantCase
-from watertaps.water import Water, bag_of, empty_water, joined, part_of, rest_of
+from watertaps.water import (
+    Water, all_of, bag_of, empty_water, joined, millilitres_of, part_of, part_up_to, rest_of, whole_water,
+)
 
 
 class Joining(PlantCase):
@@ -96,3 +98,36 @@ class Bag(PlantCase):
 
     def test_empty(self):
         self.assertEqual(bag_of(empty_water()), [0])
+
+
+class UpTo(PlantCase):
+    def test_less_than_there_is(self):
+        self.assert_water(part_up_to(Water([3, 5, 2], [10, 0, 33, 9]), 7), [3, 1, 3, 2, 3, 3, 1], [7, 0, 23, 6])
+
+    def test_just_as_much_and_more(self):
+        for volume in (10, 11, 10 ** 12):
+            part = part_up_to(Water([3, 5, 2], [10, 0, 33, 9]), volume)
+            self.assert_water(part, [3, 1, 3, 2, 5, 3, 2], [10, 0, 33, 9])
+
+    def test_of_nothing(self):
+        self.assert_water(part_up_to(empty_water(), 5), [0], [0, 0, 0, 0])
+
+
+class AllOf(PlantCase):
+    def test_several(self):
+        waters = [Water([1, 2], [1, 2, 3, 4]), empty_water(), Water([0, 0, 5], [10, 20, 30, 40]), Water([6], [0] * 4)]
+        self.assert_water(all_of(waters), [3, 1, 7, 2, 2, 3, 5], [11, 22, 33, 44])
+        self.assert_water(waters[0], [2, 1, 1, 2, 2], [1, 2, 3, 4])
+
+    def test_none(self):
+        self.assert_water(all_of([]), [0], [0, 0, 0, 0])
+
+
+class Told(PlantCase):
+    def test_whole_water(self):
+        self.assertEqual(whole_water(Water([0, 7, 0, 2, 0], [1, 2, 3, 4])), [9, 1, 2, 3, 4, 2, 2, 7, 4, 2])
+        self.assertEqual(whole_water(empty_water()), [0, 0, 0, 0, 0, 0])
+
+    def test_the_millilitres_of_one_batch(self):
+        held = Water([0, 7, 2], [0, 0, 0, 0])
+        self.assertEqual([millilitres_of(held, number) for number in (1, 2, 3, 4, 64)], [0, 7, 2, 0, 0])

@@ -1,12 +1,12 @@
-"""The calls on a plant: each is handed the plant and its arguments and answers a list of numbers.
+"""The calls that change a plant: each is handed it and its arguments and answers a list of numbers.
 
 Whoever calls them has made sure that each has as many arguments as it takes, and that the
 plant is laid, but for lay.
 """
 
 from watertaps.seconds import pass_seconds, reason_against_gulp
-from watertaps.state import Draw, Plan, follow_plan
-from watertaps.water import Water, bag_of, joined, part_of, rest_of
+from watertaps.state import Draw, Plan, empty_loop, follow_plan
+from watertaps.water import Water, all_of, bag_of, joined, part_of, part_up_to, rest_of
 
 BAD_ARGUMENT = -1
 LAID_ALREADY = -3
@@ -22,6 +22,10 @@ MOST_DRAWS = 512
 LAST_TIME = 10000000000
 # No sum and no brine grows beyond this.
 MOST = 1000000000000000
+
+# What drain is to drain; else it's the loop.
+RAW_TANK = 0
+STORE = 1
 
 LAY_RANGES = (
     (2, 32),
@@ -161,8 +165,24 @@ def draw(plant, numbers):
     return [len(plant.draws)] + bag_of(drawn)
 
 
+def drain(plant, numbers):
+    if outside(numbers, ((0, 2), (1, 1000000000000))):
+        return [BAD_ARGUMENT]
+    if numbers[0] == RAW_TANK:
+        part = part_up_to(plant.raw, numbers[1])
+        plant.raw = rest_of(plant.raw, part)
+    elif numbers[0] == STORE:
+        part = part_up_to(plant.store, numbers[1])
+        plant.store = rest_of(plant.store, part)
+    else:
+        part = all_of(plant.loop_cells)
+        empty_loop(plant)
+    plant.drained = joined(plant.drained, part)
+    return [part.volume]
+
+
 # Each call stands at its place.
-CALLS = (lay, intake, tick, test, exchange, renew, brine, loop, dose, draw)
+CALLS = (lay, intake, tick, test, exchange, renew, brine, loop, dose, draw, drain)
 
 
 def answer_of(plant, place, numbers):

@@ -1,6 +1,7 @@
 """A list of calls on one new plant, and their answers."""
 
-from watertaps.calls import CALLS, answer_of
+from watertaps.calls import answer_of
+from watertaps.readings import FIRST_READING, reading_of
 from watertaps.state import Plant
 
 NOT_LAID = -2
@@ -8,8 +9,7 @@ NO_SUCH_CALL = -100
 
 LAY = 0
 
-# How many arguments the call at each place takes. Those that aren't written yet are
-# here too, so that the calls behind one of them are still found.
+# How many arguments the call at each place takes.
 ARGUMENTS = (12, 4, 1, 0, 0, 0, 1, 1, 1, 2, 2, 0, 1, 1, 1, 1, 1, 1, 0, 1)
 
 
@@ -40,8 +40,10 @@ def end_of_call(calls, start):
 
 def answer_to(plant, call):
     place = call[0]
-    if place < 0 or place >= len(CALLS) or len(call) != 1 + ARGUMENTS[place]:
+    if place < 0 or place >= len(ARGUMENTS) or len(call) != 1 + ARGUMENTS[place]:
         return [NO_SUCH_CALL]
     if place != LAY and plant.plan is None:
         return [NOT_LAID]
+    if place >= FIRST_READING:
+        return reading_of(plant, place, call[1:])
     return answer_of(plant, place, call[1:])

@@ -1,6 +1,6 @@
 """What a laid plant does by itself, second by second."""
 
-from watertaps.water import CHLORINE, DISINFECTANT, HARDNESS, SALT, Water, joined, part_of, rest_of
+from watertaps.water import CHLORINE, DISINFECTANT, HARDNESS, SALT, Water, joined, part_of, part_up_to, rest_of
 
 
 def volume_through(plan):
@@ -63,7 +63,7 @@ def let_through(plan, treated):
 
 def turn_loop(plant):
     full = joined(plant.store, plant.loop_cells[-1])
-    first = part_of(full, min(plant.plan.cell, full.volume))
+    first = part_up_to(full, plant.plan.cell)
     plant.store = rest_of(full, first)
     plant.loop_cells = [first] + plant.loop_cells[:-1]
     if first.amounts[DISINFECTANT] == 0:

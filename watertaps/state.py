@@ -60,8 +60,40 @@ class Plant:
 def follow_plan(plant, plan):
     """Lay the plant: all that isn't named here stays as it is in a new one."""
     plant.plan = plan
-    plant.loop_cells = [empty_water() for cell in range(plan.cells)]
     plant.softener_left = plan.soft
     plant.first_left = plan.carbon
     plant.second_left = plan.carbon
-    plant.clean_count = plan.cells
+    empty_loop(plant)
+
+
+def empty_loop(plant):
+    """Cells that are empty are clean, all of them."""
+    plant.loop_cells = [empty_water() for cell in range(plant.plan.cells)]
+    plant.clean_count = plant.plan.cells
+
+
+def copy_of(plant):
+    """A plant just like this one, which may go on by itself."""
+    other = Plant()
+    # Plan, waters and draws are never changed once they are made, so both plants may hold them.
+    other.plan = plant.plan
+    other.time = plant.time
+    other.raw = plant.raw
+    other.store = plant.store
+    other.loop_cells = list(plant.loop_cells)
+    other.drained = plant.drained
+    other.softener_left = plant.softener_left
+    other.since_renewed = plant.since_renewed
+    other.first_left = plant.first_left
+    other.second_left = plant.second_left
+    other.test_time = plant.test_time
+    other.brine = plant.brine
+    other.loop_on = plant.loop_on
+    other.clean_count = plant.clean_count
+    other.batches = list(plant.batches)
+    other.draws = list(plant.draws)
+    other.chlorine_taken = plant.chlorine_taken
+    other.doses = plant.doses
+    other.hardness_taken = plant.hardness_taken
+    other.disinfectant_put = plant.disinfectant_put
+    return other

@@ -29,6 +29,13 @@ def joined(one, other):
     return Water(added(one.millilitres, other.millilitres), amounts)
 
 
+def all_of(waters):
+    whole = empty_water()
+    for water in waters:
+        whole = joined(whole, water)
+    return whole
+
+
 def added(one, other):
     both = [a + b for a, b in zip(one, other)]
     # At most one of the two lists goes on behind what both have.
@@ -42,6 +49,11 @@ def part_of(water, volume):
     rounded = [own * volume // water.volume for own in water.millilitres]
     amounts = [amount * volume // water.volume for amount in water.amounts]
     return Water(filled_up(rounded, water.millilitres, volume - sum(rounded)), amounts)
+
+
+def part_up_to(water, volume):
+    """The part of so many millilitres, or of all of it if there's less."""
+    return part_of(water, min(volume, water.volume))
 
 
 def filled_up(rounded, whole, missing):
@@ -63,6 +75,13 @@ def rest_of(water, part):
     return Water(millilitres, amounts)
 
 
+def millilitres_of(water, batch):
+    """How many millilitres of the batch of that number the water has."""
+    if batch > len(water.millilitres):
+        return 0
+    return water.millilitres[batch - 1]
+
+
 def bag_of(water):
     """How many batches the water has, then each one's number and millilitres."""
     pairs = []
@@ -70,3 +89,8 @@ def bag_of(water):
         if own > 0:
             pairs.extend([number, own])
     return [len(pairs) // 2] + pairs
+
+
+def whole_water(water):
+    """All that is told of a water: its volume, the four amounts, its bag."""
+    return [water.volume] + water.amounts + bag_of(water)
